@@ -53,6 +53,16 @@ func want(s string) (r, next int) {
 	return int(x), n
 }
 
+func holdAgainstLibrary(t *testing.T, s string) {
+	r, next := Get(s, 0)
+	if x, to := want(s); r != x || next != to {
+		t.Fatalf("Get(%x, 0): %#x, %d, want %#x, %d", s, r, next, x, to)
+	}
+	if got := Valid(s); got != std.ValidString(s) {
+		t.Fatalf("Valid(%x): %v", s, got)
+	}
+}
+
 // 2.1
 func TestPut(t *testing.T) {
 	for _, c := range []struct {
@@ -189,14 +199,7 @@ func TestShortTexts(t *testing.T) {
 	for n := 1; n <= 3; n++ {
 		for i := range 1 << (8 * n) {
 			b[0], b[1], b[2] = byte(i), byte(i>>8), byte(i>>16)
-			s := string(b[:n])
-			r, next := Get(s, 0)
-			if x, to := want(s); r != x || next != to {
-				t.Fatalf("Get(%x, 0): %#x, %d, want %#x, %d", s, r, next, x, to)
-			}
-			if got := Valid(s); got != std.ValidString(s) {
-				t.Fatalf("Valid(%x): %v", s, got)
-			}
+			holdAgainstLibrary(t, string(b[:n]))
 		}
 	}
 }
@@ -207,14 +210,7 @@ func TestTextsOfFour(t *testing.T) {
 	for i := range 1 << 16 {
 		for _, c := range rest {
 			for _, d := range rest {
-				s := string([]byte{byte(i), byte(i >> 8), c, d})
-				r, next := Get(s, 0)
-				if x, to := want(s); r != x || next != to {
-					t.Fatalf("Get(%x, 0): %#x, %d, want %#x, %d", s, r, next, x, to)
-				}
-				if got := Valid(s); got != std.ValidString(s) {
-					t.Fatalf("Valid(%x): %v", s, got)
-				}
+				holdAgainstLibrary(t, string([]byte{byte(i), byte(i >> 8), c, d}))
 			}
 		}
 	}
